@@ -1,0 +1,1 @@
+"""Undertwo: dotted lines read by glimpses, and the price of a law."""
