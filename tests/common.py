@@ -198,6 +198,42 @@ def chain(letters_of_word):
     return (1, many + 1, (0,), (many,), tuple((room, 0, room + 1) for room in range(many)))
 
 
+def two_circles(one, two, ends, tail=0, blind=False):
+    """A machine of two circles that turn side by side, behind a tail of rooms; blind: with a letter without moves."""
+    first, starts, last = circle(one, [0])
+    second, more, _ = circle(two, [0], first=one)
+    moves = first + second
+    begin = starts + more
+    rooms = one + two
+    for _ in range(tail):
+        moves = moves + [(rooms, 0, room) for room in begin]
+        begin = [rooms]
+        rooms += 1
+    return (2 if blind else 1, rooms, tuple(sorted(begin)), tuple(sorted(ends)), tuple(sorted(moves)))
+
+
+def tail_and_ring(tail, rooms, ends):
+    """A machine of one letter that goes through the rooms of a tail and then round and round."""
+    last = tail + rooms - 1
+    moves = tuple((room, 0, room + 1) for room in range(last)) + ((last, 0, tail),)
+    return (1, tail + rooms, (0,), ends, moves)
+
+
+def all_words(letters, of):
+    """The machine of so many letters that lets all words of some of them."""
+    return (letters, 1, (0,), (0,), tuple((0, letter, 0) for letter in of))
+
+
+def no_words(letters):
+    """A machine that lets no word."""
+    return (letters, 0, (), (), ())
+
+
+def empty_word(letters):
+    """A machine that lets the empty word alone."""
+    return (letters, 1, (0,), (0,), ())
+
+
 # Wrong values for the arguments, each with the error that it must raise and what that keeps.
 
 def wrong_numbers(low, high, kind):

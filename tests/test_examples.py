@@ -119,6 +119,139 @@ SURE = """
 ((0, 0, 1), True, True)
 """
 
+PRICES = """
+>>> from undertwo.prices import code_size, law_price, long_price, price, sure_from
+>>> price(4, 2), price(15, 3), price(16, 3), price(9, 1), long_price(2), long_price(4)
+((1, 4), (1, 10), (2, 21), (0, 1), (1, 1), (5, 3))
+>>> [code_size(rooms) for rooms in range(7)], [sure_from(rooms) for rooms in range(6)]
+([0, 0, 1, 2, 3, 3, 4], [1, 1, 4, 15, 30, 42])
+>>> EVEN = (1, 2, (0,), (0,), ((0, 0, 1), (1, 0, 0)))
+>>> law_price(EVEN, 4), law_price(EVEN, 20)
+((1, 4), (1, 20))
+"""
+
+PLANS = """
+>>> from undertwo.plans import code, plan, shortest, stretch
+>>> plan(4, 2), plan(15, 3), plan(9, 1)
+((('middle', 1, 4),), (('middle', 6, 10), ('side', 5, 15)), ())
+>>> plan(30, 4)
+(('middle', 13, 18), ('side', 6, 30), ('side', 12, 24))
+>>> code(2, 1), code(3, 1), code(3, 2), code(5, 3)
+((1,), (1, 0), (1, 1), (1, 0, 1))
+>>> shortest(4, 2), shortest(15, 3), shortest(30, 4), shortest(7, 1)
+(12, 110, 380, 21)
+>>> stretch(4, 2, 1, 12), stretch(4, 2, 0, 13)
+((1, 1, 1, 0, 0, 0, 1, 0, 0, 0, 1, 1), (0, 0, 0, 0, 0, 0, 0, 0, 0, 0, 0, 0, 0))
+>>> stretch(4, 2, 1, 13)
+(1, 1, 0, 1, 0, 0, 0, 1, 0, 0, 0, 1, 1)
+"""
+
+LINES = """
+>>> from undertwo.lines import bare, dots_in, sizes, stations, undotted
+>>> bare((0, 2), (2, 1, 0)), bare((), (3,))
+((0, 0, 3, 0, 5), (0, 0, 0))
+>>> stations((1, 0, 3, 0, 5)), sizes((1, 0, 3, 0, 5)), dots_in((1, 0, 3, 0, 5))
+((0, 2), (2, 1, 0), (1, 0, 0))
+>>> undotted((1, 0, 3, 0, 5)), sizes(()), stations(())
+((0, 0, 3, 0, 5), (0,), ())
+"""
+
+PAINTER = """
+>>> from undertwo.lines import dots_in
+>>> from undertwo.painter import bound, paint
+>>> EVEN = (1, 2, (0,), (0,), ((0, 0, 1), (1, 0, 0)))
+>>> paint(EVEN, 4, (), (12,))
+(0, 0, 0, 0, 0, 0, 0, 0, 0, 0, 0, 0)
+>>> LINE = paint(EVEN, 4, (0, 0), (12, 13, 14))
+>>> len(LINE), LINE[12:27], dots_in(LINE)
+(41, (3, 1, 1, 0, 1, 0, 0, 0, 1, 0, 0, 0, 1, 1, 3), (0, 6, 0))
+>>> bound(4, 2, 12), bound(4, 2, 15), bound(4, 2, 16), bound(7, 1, 21)
+(6, 6, 7, 0)
+"""
+
+INSPECTORS = """
+>>> from undertwo.inspectors import first_no, is_inspector, passes, words_of
+>>> from undertwo.madewords import inspector
+>>> even = (1, 2, (0,), (0,), ((0, 0, 1), (1, 0, 0)))
+>>> one = inspector(even, 4)
+>>> one[:2], len(one[2]), one[2][:3], one[2][-1]
+((4, 12), 56, ((0, 0, 0, 0, 0), (0, 0, 0, 0, 2), (0, 0, 0, 0, 3)), (3, 1, 1, 1, 1))
+>>> passes(one, (0,) * 12), first_no(one, (0,) * 12 + (3,) + (0,) * 12), first_no(one, ())
+(True, 13, 0)
+>>> words_of(2, (0, 3)), words_of(1, ())
+(((0, 3, 2), (2, 0, 3), (2, 2, 0), (3, 2, 2)), ((2, 2),))
+>>> is_inspector((1, 2, ((0, 0), (0, 3)))), is_inspector((1, 1, ())), is_inspector((1, 2, ((0, 3), (0, 0))))
+(True, False, False)
+"""
+
+JOINING = """
+>>> from undertwo.joining import behind, both, butnot, either, opposite, repeated
+>>> some = (2, 2, (0,), (1,), ((0, 0, 1),))
+>>> other = (2, 2, (0,), (1,), ((0, 1, 1),))
+>>> either(some, other)
+(2, 3, (0,), (1,), ((0, 0, 1), (0, 1, 1), (1, 0, 2), (1, 1, 2), (2, 0, 2), (2, 1, 2)))
+>>> (both(some, other), butnot(some, other) == either(some, some))
+((2, 1, (0,), (), ((0, 0, 0), (0, 1, 0))), True)
+>>> behind(some, other)
+(2, 4, (0,), (3,), ((0, 0, 1), (0, 1, 2), (1, 0, 2), (1, 1, 3), (2, 0, 2), (2, 1, 2), (3, 0, 2), (3, 1, 2)))
+>>> repeated(some)
+(2, 2, (0,), (0,), ((0, 0, 0), (0, 1, 1), (1, 0, 1), (1, 1, 1)))
+>>> opposite(repeated(either(some, other)))
+(2, 1, (0,), (), ((0, 0, 0), (0, 1, 0)))
+"""
+
+RECTS = """
+>>> from undertwo.rects import rect_machine, rects
+>>> even = (1, 2, (0,), (0,), ((0, 0, 1), (1, 0, 0)))
+>>> third = (2, 4, (0,), (3,), ((0, 0, 0), (0, 0, 1), (0, 1, 0), (1, 0, 2), (1, 1, 2), (2, 0, 3), (2, 1, 3)))
+>>> (rects(even), rects((1, 1, (0,), (), ())), rects(third)[:4])
+(((0,), (1,)), (), ((4,), (2, 4), (4, 5), (4, 6)))
+>>> rects(third)[4:]
+((1, 2, 4, 6), (2, 3, 4, 5), (4, 5, 6, 7), (0, 1, 2, 3, 4, 5, 6, 7))
+>>> (rect_machine(even, (0, 1)) == even, rect_machine(even, (1,)), rect_machine(third, (7,)))
+(True, (1, 1, (), (), ()), (2, 1, (0,), (), ((0, 0, 0), (0, 1, 0))))
+"""
+
+LEASTROOMS = """
+>>> from undertwo.leastrooms import least_lot, least_machine, least_rooms
+>>> even = (1, 2, (0,), (0,), ((0, 0, 1), (1, 0, 0)))
+>>> third = (2, 4, (0,), (3,), ((0, 0, 0), (0, 0, 1), (0, 1, 0), (1, 0, 2), (1, 1, 2), (2, 0, 3), (2, 1, 3)))
+>>> (least_lot(even), least_machine(even) == even, least_lot(third), least_rooms(third))
+((0, 1), True, (4, 5, 6, 7), 4)
+>>> least_machine(third)[:4]
+(2, 4, (3,), (2,))
+>>> least_machine(third)[4][:8]
+((0, 0, 0), (0, 0, 1), (0, 0, 3), (0, 1, 1), (0, 1, 3), (1, 0, 0), (1, 0, 2), (1, 0, 3))
+>>> least_machine(third)[4][8:]
+((1, 1, 2), (1, 1, 3), (2, 0, 0), (2, 0, 3), (2, 1, 3), (3, 0, 0), (3, 0, 3), (3, 1, 3))
+>>> (least_machine((1, 1, (0,), (), ())), least_rooms((2, 2, (0, 1), (0, 1), ((0, 0, 0), (1, 0, 0)))))
+((1, 0, (), (), ()), 1)
+"""
+
+FOOLS = """
+>>> from undertwo.fools import fool_right, fools
+>>> even = (1, 2, (0,), (0,), ((0, 0, 1), (1, 0, 0)))
+>>> third = (2, 4, (0,), (3,), ((0, 0, 0), (0, 0, 1), (0, 1, 0), (1, 0, 2), (1, 1, 2), (2, 0, 3), (2, 1, 3)))
+>>> (fools(even), fools((1, 1, (0,), (), ())))
+((((), ()), ((0,), (0,))), ())
+>>> fools(third)
+(((), (0, 0, 0)), ((0,), (0, 0)), ((0, 0), (0,)), ((0, 0, 0), ()))
+>>> (fool_right(third, fools(third)), fool_right(even, (((), ()), ((0,), (0, 0)))), fool_right(even, [((), ())]))
+(True, False, False)
+>>> (fool_right(even, ()), fool_right(even, (((), ()), ((), ()))))
+(True, False)
+"""
+
+KNOTS = """
+>>> from undertwo.knots import knots, thinnest
+>>> free = (2, 4, ((0, 0, 1), (0, 1, 0), (0, 1, 1), (1, 0, 0), (1, 0, 1), (1, 1, 0), (1, 1, 1)))
+>>> knots(free), thinnest(free)
+((((0, 0), (0, 1), (1, 0), (1, 1)),), ((1, 3),))
+>>> turn = (2, 4, ((0, 0, 0), (0, 1, 0), (1, 0, 1), (1, 1, 1)))
+>>> knots(turn), thinnest(turn)
+((((0, 0),), ((0, 1), (1, 0)), ((1, 1),)), ((0, 1), (1, 2), (1, 1)))
+"""
+
 
 class Examples(unittest.TestCase):
 
@@ -159,6 +292,36 @@ class Examples(unittest.TestCase):
 
     def test_sure(self):
         self.check(SURE)
+
+    def test_prices(self):
+        self.check(PRICES)
+
+    def test_plans(self):
+        self.check(PLANS)
+
+    def test_lines(self):
+        self.check(LINES)
+
+    def test_painter(self):
+        self.check(PAINTER)
+
+    def test_inspectors(self):
+        self.check(INSPECTORS)
+
+    def test_joining(self):
+        self.check(JOINING)
+
+    def test_rects(self):
+        self.check(RECTS)
+
+    def test_leastrooms(self):
+        self.check(LEASTROOMS)
+
+    def test_fools(self):
+        self.check(FOOLS)
+
+    def test_knots(self):
+        self.check(KNOTS)
 
     def test_the_examples_of_the_readme(self):
         parts = README.read_text(encoding="utf-8").split("```")[1::2]

@@ -9,7 +9,7 @@ import unittest
 FOLDER = pathlib.Path(__file__).resolve().parent.parent / "undertwo"
 FILES = sorted(path for path in FOLDER.rglob("*") if "__pycache__" not in path.parts)
 
-LIBRARY = {"math": {"gcd", "lcm", "isqrt", "comb"}}
+LIBRARY = {"math": {"gcd", "lcm", "isqrt", "comb"}, "itertools": {"product", "combinations", "permutations"}}
 BUILTINS = set("""
     len range enumerate zip min max sum abs sorted reversed int str bool list tuple dict set isinstance ord repr any
     all divmod
@@ -185,7 +185,8 @@ class Form(unittest.TestCase):
                         self.assertLessEqual({word.arg for word in node.keywords}, {"default", "key", "reverse"}, where)
 
     def test_sets_and_things_iterated_at_once(self):
-        at_once = {"list", "tuple", "dict", "sorted", "sum", "any", "all", "enumerate", "zip", "min", "max"}
+        at_once = {"list", "tuple", "dict", "sorted", "sum", "any", "all", "enumerate", "zip", "min", "max",
+                   "combinations", "product", "permutations"}
         for path, tree in trees():
             above = parents(tree)
             for node in ast.walk(tree):

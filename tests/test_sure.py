@@ -3,7 +3,7 @@
 import itertools
 import unittest
 
-from tests.common import (EVEN, NO_NUMBERS, THIRD, Case, Chances, chain, circle, let_words, nested, renamed, ring,
+from tests.common import (EVEN, NO_NUMBERS, THIRD, Case, Chances, chain, let_words, nested, renamed, ring, two_circles,
                           words_up_to)
 from undertwo.errors import BadMachine, BadRoom, TooMany, Unlike
 from undertwo.machines import flipped, is_machine, lets, trimmed
@@ -14,20 +14,6 @@ SOME = [CHANCES.machine(letters, rooms, CHANCES.below(2 * rooms + 1) + 1)
         for letters in (1, 2) for rooms in (1, 2, 3) for _ in range(15)] + [
     EVEN, THIRD, flipped(THIRD), (1, 0, (), (), ()), (2, 0, (), (), ()), (2, 2, (), (0, 1), ((0, 0, 1),)),
     (2, 2, (0, 1), (), ((0, 0, 1),)), (2, 2, (0,), (0, 1), ()), (1, 1, (0,), (0,), ((0, 0, 0),)), chain(5), ring(6, (1, 3, 5))]
-
-
-def two_circles(one, two, ends, tail=0, blind=False):
-    """A machine of two circles that turn side by side, behind a tail of rooms; blind: with a letter without moves."""
-    first, starts, last = circle(one, [0])
-    second, more, _ = circle(two, [0], first=one)
-    moves = first + second
-    begin = starts + more
-    rooms = one + two
-    for _ in range(tail):
-        moves = moves + [(rooms, 0, room) for room in begin]
-        begin = [rooms]
-        rooms += 1
-    return (2 if blind else 1, rooms, tuple(sorted(begin)), tuple(sorted(ends)), tuple(sorted(moves)))
 
 
 def room_of(sure, word):

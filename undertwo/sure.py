@@ -63,14 +63,19 @@ def by_meeting(table, ended, kinds):
     return (len(table[0]), len(met), (0,), tuple(ends), tuple(moves))
 
 
-def sure_of(machine):
-    """The sure machine of the same law with the fewest rooms, numbered by meeting."""
-    made_machine(machine)
-    table, ended = lots_of(machine)
+def least_of(table, ended):
+    """The sure machine with the fewest rooms for what the table leads to, if it has not too many."""
     sure = by_meeting(table, ended, kinds_of(table, ended))
     if sure[1] > MOST_ROOMS:
         raise TooMany(sure[1])
     return sure
+
+
+def sure_of(machine):
+    """The sure machine of the same law with the fewest rooms, numbered by meeting."""
+    made_machine(machine)
+    table, ended = lots_of(machine)
+    return least_of(table, ended)
 
 
 def way_to(machine, room):
