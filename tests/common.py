@@ -307,3 +307,42 @@ WRONG_WEIGHTS = wrong_tuples(errors.BadWeights) + [
     ((-1,), errors.BadWeights, 0), ((1001,), errors.BadWeights, 0), ((True,), errors.BadWeights, 0),
     ((0, False), errors.BadWeights, 1), ((0, 1, "1"), errors.BadWeights, 2), ((0, None, -1), errors.BadWeights, 1),
     ((0, (1,)), errors.BadWeights, 1), ((0, [1]), errors.BadWeights, 1), ((0,) * 4 + (1001,), errors.BadWeights, 4)]
+
+WRONG_LOT_OF_2 = [(thing, errors.BadLot, 0) for thing in NO_TUPLES + (
+    (2,), (-1,), (True,), (False,), (0, True), (1, 0), (0, 0), (0, 1, 2), (0, 1, 1), ("0",), (None,), ((0,),), ([0],),
+    (0, 10 ** 40), ((), ()), nested(20))]
+
+# For a machine of two letters.
+WRONG_LINE_OF_2 = wrong_tuples(errors.BadLine) + [
+    ((0,) * 6001, errors.BadLine, -1), ((None,) * 6001, errors.BadLine, -1), ((2,), errors.BadLine, 0),
+    ((0, 7), errors.BadLine, 1), ((0, 1, -1), errors.BadLine, 2), ((True,), errors.BadLine, 0),
+    ((0, False), errors.BadLine, 1), ((1, "1"), errors.BadLine, 1), ((None, 2), errors.BadLine, 0),
+    ((0, (0,)), errors.BadLine, 1), ((0, [0]), errors.BadLine, 1), ((3, 4, 10 ** 40), errors.BadLine, 2),
+    ((nested(19),), errors.BadLine, 0), ((0,) * 5999 + (2,), errors.BadLine, 5999)]
+
+WRONG_LINE_OF_4 = WRONG_LINE_OF_2 + [((3, 6, 7), errors.BadLine, 2)]
+WRONG_LINE_OF_2 = WRONG_LINE_OF_2 + [((3, 4, 5), errors.BadLine, 2), ((6,), errors.BadLine, 0)]
+
+WRONG_WORD_OF_4 = [(thing, kind, what) for thing, kind, what in WRONG_WORD_OF_2 if what < 0 or thing[what] != 2] + [
+    ((4,), errors.BadWord, 0), ((3, 2, 4, -1), errors.BadWord, 2), ((3,) * 199 + (4,), errors.BadWord, 199)]
+
+# For a word of two letters.
+WRONG_LENGTHS_OF_3 = wrong_tuples(errors.BadLengths) + [
+    ((), errors.BadLengths, -1), ((12, 12), errors.BadLengths, -1), ((12,) * 4, errors.BadLengths, -1),
+    ((None,) * 4, errors.BadLengths, -1), ((-1, 12, 12), errors.BadLengths, 0), ((12, 5001, 12), errors.BadLengths, 1),
+    ((12, 12, 5001), errors.BadLengths, 2), ((True, 12, 12), errors.BadLengths, 0),
+    ((12, False, None), errors.BadLengths, 1), ((12, 12, "12"), errors.BadLengths, 2),
+    ((None, 12, 12), errors.BadLengths, 0), ((12, (12,), 12), errors.BadLengths, 1),
+    ((12, 12, [12]), errors.BadLengths, 2), ((10 ** 40, 12, 12), errors.BadLengths, 0),
+    ((nested(19), 12, 12), errors.BadLengths, 0)]
+
+WRONG_INSPECTOR = wrong_tuples(errors.BadInspector) + [
+    (thing, errors.BadInspector, -1) for thing in (
+        (), (1, 2), (1, 2, (), ()), [1, 2, ()], (0, 2, ()), (61, 122, ()), (True, 2, ()), ("1", 2, ()), (None, 2, ()),
+        ((1,), 2, ()), (1, True, ()), (1, "2", ()), (1, None, ()), (1, (2,), ()), (1, 1, ()), (1, 5001, ()),
+        (1, 2, None), (1, 2, []), (1, 2, "00"), (1, 2, 0), (1, 2, [(0, 0)]), (False, 0, ()), nested(20),
+        (1, 2, (None,) * 6001))] + [
+    ((1, 2, words), errors.BadInspector, at) for words, at in (
+        ((None,), 0), (((0, 0), None), 1), (((0,),), 0), (((0, 0, 0),), 0), (((0, 7),), 0), (((0, -1),), 0),
+        (((0, 0), (0, 1), (1, 7)), 2), (((True, 0),), 0), (((0, 0), (0, True)), 1), ((((0,), 0),), 0), (([0, 0],), 0),
+        (((0, 0), "01"), 1), (((0, 0), (0, 0)), 1), (((0, 3), (0, 0)), 1), (((0, 0), (0, 2), (0, 2), (0, 9)), 2))]

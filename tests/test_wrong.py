@@ -6,8 +6,10 @@ import itertools
 import unittest
 
 from tests import common
-from tests.common import (EVEN, NO_NUMBERS, THIRD, WRONG_K, WRONG_MACHINE, WRONG_ROW, WRONG_ROWS, WRONG_TS,
-                          WRONG_VIEW_OF_3, WRONG_WEIGHTS, WRONG_WORD_OF_2, Case, wrong_numbers)
+from tests.common import (EVEN, NO_NUMBERS, NO_TUPLES, THIRD, WRONG_INSPECTOR, WRONG_K, WRONG_LENGTHS_OF_3,
+                          WRONG_LINE_OF_2, WRONG_LINE_OF_4, WRONG_LOT_OF_2, WRONG_MACHINE, WRONG_ROW, WRONG_ROWS,
+                          WRONG_TS, WRONG_VIEW_OF_3, WRONG_WEIGHTS, WRONG_WORD_OF_2, WRONG_WORD_OF_4, Case,
+                          wrong_numbers)
 from undertwo import errors
 
 NO_MANY = wrong_numbers(1, 30, errors.BadMany)
@@ -17,6 +19,15 @@ NO_START = wrong_numbers(0, 10 ** 30, errors.BadStart)
 NO_K_OF_SHARES = wrong_numbers(1, 24, errors.BadK)
 NO_ROOM_OF_THIRD = [(thing, errors.BadRoom, thing) for thing in NO_NUMBERS + (-1, 8, 10 ** 40)]
 DARK = [((), errors.NoDots, 0)]
+NO_ROOMS_OF_PRICE = wrong_numbers(0, 30, errors.BadMany)
+NO_ROOMS_OF_PLAN = wrong_numbers(0, 5, errors.BadMany)
+NO_ROOMS_OF_CODE = wrong_numbers(2, 5, errors.BadMany)
+NO_ROOM_OF_2 = [(thing, errors.BadRoom, thing) for thing in NO_NUMBERS + (-1, 2, 10 ** 40)]
+NO_ROOM_OF_CODE = NO_ROOM_OF_2 + [(0, errors.BadRoom, 0)]
+NO_SIZE_FROM_12 = [(thing, errors.BadSize, 12) for thing in NO_NUMBERS + (-1, 0, 11, 5001, 10 ** 40)]
+EYE = (1, 2, ((0, 0), (0, 2), (0, 3), (2, 0), (3, 0)))
+# Lets a station 0 and then a station 1; two rooms.
+SOME_PAINTED = (2, 2, (0,), (0,), ((0, 0, 1), (1, 1, 0)))
 
 # For each function: the module, the name, the names of its arguments, good arguments, the wrong ones for each of them.
 FUNCTIONS = (
@@ -66,6 +77,47 @@ FUNCTIONS = (
     ("sure", "part_word", ("one", "two"), (EVEN, EVEN), (WRONG_MACHINE, WRONG_MACHINE)),
     ("sure", "alike", ("one", "two"), (EVEN, EVEN), (WRONG_MACHINE, WRONG_MACHINE)),
     ("sure", "within", ("one", "two"), (EVEN, EVEN), (WRONG_MACHINE, WRONG_MACHINE)),
+    ("joining", "either", ("one", "two"), (EVEN, EVEN), (WRONG_MACHINE, WRONG_MACHINE)),
+    ("joining", "both", ("one", "two"), (EVEN, EVEN), (WRONG_MACHINE, WRONG_MACHINE)),
+    ("joining", "butnot", ("one", "two"), (EVEN, EVEN), (WRONG_MACHINE, WRONG_MACHINE)),
+    ("joining", "behind", ("one", "two"), (EVEN, EVEN), (WRONG_MACHINE, WRONG_MACHINE)),
+    ("joining", "repeated", ("one",), (EVEN,), (WRONG_MACHINE,)),
+    ("joining", "opposite", ("one",), (EVEN,), (WRONG_MACHINE,)),
+    ("rects", "rects", ("machine",), (THIRD,), (WRONG_MACHINE,)),
+    ("rects", "rect_machine", ("machine", "lot"), (EVEN, (0, 1)), (WRONG_MACHINE, WRONG_LOT_OF_2)),
+    ("leastrooms", "least_lot", ("machine",), (THIRD,), (WRONG_MACHINE,)),
+    ("leastrooms", "least_machine", ("machine",), (THIRD,), (WRONG_MACHINE,)),
+    ("leastrooms", "least_rooms", ("machine",), (THIRD,), (WRONG_MACHINE,)),
+    ("fools", "fool_right", ("machine", "thing"), (EVEN, (((), ()),)), (WRONG_MACHINE, ())),
+    ("fools", "fools", ("machine",), (THIRD,), (WRONG_MACHINE,)),
+    ("prices", "price", ("k", "rooms"), (4, 2), (WRONG_K, NO_ROOMS_OF_PRICE)),
+    ("prices", "long_price", ("rooms",), (2,), (NO_ROOMS_OF_PRICE,)),
+    ("prices", "code_size", ("rooms",), (2,), (NO_ROOMS_OF_PRICE,)),
+    ("prices", "sure_from", ("rooms",), (2,), (NO_ROOMS_OF_PRICE,)),
+    ("prices", "law_price", ("machine", "k"), (EVEN, 4), (WRONG_MACHINE, WRONG_K)),
+    ("plans", "plan", ("k", "rooms"), (42, 5), (WRONG_K, NO_ROOMS_OF_PLAN)),
+    ("plans", "code", ("rooms", "room"), (2, 1), (NO_ROOMS_OF_CODE, NO_ROOM_OF_CODE)),
+    ("plans", "shortest", ("k", "rooms"), (42, 5), (WRONG_K, NO_ROOMS_OF_PLAN)),
+    ("plans", "stretch", ("k", "rooms", "room", "size"), (4, 2, 1, 12),
+     (WRONG_K, NO_ROOMS_OF_PLAN, NO_ROOM_OF_2, NO_SIZE_FROM_12)),
+    ("lines", "made_line", ("machine", "thing"), (THIRD, (0, 3, 1)), (WRONG_MACHINE, WRONG_LINE_OF_2)),
+    ("lines", "made_lengths", ("word", "thing"), ((0, 3), (0, 1, 2)), (WRONG_WORD_OF_4, WRONG_LENGTHS_OF_3)),
+    ("lines", "stations", ("line",), ((0, 3, 1),), (WRONG_LINE_OF_4,)),
+    ("lines", "sizes", ("line",), ((0, 3, 1),), (WRONG_LINE_OF_4,)),
+    ("lines", "dots_in", ("line",), ((0, 3, 1),), (WRONG_LINE_OF_4,)),
+    ("lines", "undotted", ("line",), ((0, 3, 1),), (WRONG_LINE_OF_4,)),
+    ("lines", "bare", ("word", "lengths"), ((0, 3), (0, 1, 2)), (WRONG_WORD_OF_4, WRONG_LENGTHS_OF_3)),
+    ("painter", "paint", ("machine", "k", "word", "lengths"), (SOME_PAINTED, 4, (0, 1), (12, 12, 12)),
+     (WRONG_MACHINE, WRONG_K, WRONG_WORD_OF_2, WRONG_LENGTHS_OF_3)),
+    ("painter", "bound", ("k", "rooms", "size"), (4, 2, 12), (WRONG_K, NO_ROOMS_OF_PLAN, NO_SIZE_FROM_12)),
+    ("inspectors", "made_inspector", ("thing",), (EYE,), (WRONG_INSPECTOR,)),
+    ("inspectors", "is_inspector", ("thing",), (EYE,), None),
+    ("inspectors", "first_no", ("inspector", "line"), (EYE, (0, 3, 1)), (WRONG_INSPECTOR, WRONG_LINE_OF_4)),
+    ("inspectors", "passes", ("inspector", "line"), (EYE, (0, 3, 1)), (WRONG_INSPECTOR, WRONG_LINE_OF_4)),
+    ("inspectors", "words_of", ("k", "line"), (2, (0, 3, 1)), (WRONG_K, WRONG_LINE_OF_4)),
+    ("madewords", "inspector", ("machine", "k"), (EVEN, 4), (WRONG_MACHINE, WRONG_K)),
+    ("knots", "knots", ("inspector",), (EYE,), (WRONG_INSPECTOR,)),
+    ("knots", "thinnest", ("inspector",), (EYE,), (WRONG_INSPECTOR,)),
 )
 
 
@@ -118,14 +170,21 @@ class Wrong(Case):
                         self.refused(kind, what, action, **dict(reversed(list(zip(arguments, given)))))
 
     def test_judges_return_false(self):
-        is_row, is_machine = function("rows", "is_row"), function("machines", "is_machine")
-        for thing, _, _ in WRONG_ROW:
+        judges = [(function("rows", "is_row"), WRONG_ROW), (function("machines", "is_machine"), WRONG_MACHINE),
+                  (function("inspectors", "is_inspector"), WRONG_INSPECTOR)]
+        for judge, wrong in judges:
+            for thing, _, _ in wrong:
+                self.is_false(judge(thing))
+            for thing in NO_TUPLES:
+                self.is_false(judge(thing))
+        is_row, is_machine, is_inspector = [judge for judge, _ in judges]
+        for thing in (EVEN, THIRD, EYE):
             self.is_false(is_row(thing))
-            self.is_false(is_machine(thing))
-        for thing, _, _ in WRONG_MACHINE:
-            self.is_false(is_machine(thing))
-        for thing in (EVEN, THIRD):
-            self.is_false(is_row(thing))
+            self.is_false(is_machine(thing) and is_inspector(thing))
+        fool_right = function("fools", "fool_right")
+        for thing, _, _ in WRONG_MACHINE + WRONG_INSPECTOR + WRONG_ROW:
+            if thing != ():
+                self.is_false(fool_right(EVEN, thing))
 
     def test_nothing_that_is_handed_in_is_changed(self):
         held = [1, [2, [3]], (4, [5])]

@@ -51,7 +51,7 @@ def grown(columns, pairs, many):
     for at, pair in enumerate(pairs):
         rest = [other for other in pairs[at + 1:] if agree(columns, pair, other)]
         # Pairs with the same past do not agree, so there are no more to come than pasts are left.
-        if len(sorted({past for past, future in rest})) >= many - 1:
+        if len({past for past, future in rest}) >= many - 1:
             found = grown(columns, rest, many - 1)
             if found is not None:
                 return (pair, *found)
