@@ -202,7 +202,8 @@ class OneFool(Case):
         self.assertEqual(fools(chain(2)), (((), (0, 0)), ((0,), (0,)), ((0, 0), ())))
 
     def test_8_rooms_and_9(self):
-        self.assertEqual(fools(ring(8, (0,))), ((((), ()),) + tuple(((0,) * at, (0,) * (8 - at)) for at in range(1, 8))))
+        self.assertEqual(fools(ring(8, (0,))),
+                         (((), ()),) + tuple(((0,) * at, (0,) * (8 - at)) for at in range(1, 8)))
         self.refused(TooMany, 9, fools, ring(9, (0,)))
         self.assertEqual(len(fools(chain(6))), 7)
         self.refused(TooMany, 9, fools, chain(7))

@@ -146,8 +146,8 @@ class Knots(Case):
             told = inspector(machine, k)
             rooms = machine[1]
             self.assertEqual(len(knots(told)), rooms)
-            wanted = [Fraction(0)] + [Fraction(1, entry[2]) if entry[0] == "middle" else Fraction(2, entry[1] + entry[2])
-                                      for entry in plan(k, rooms)]
+            wanted = [Fraction(0)] + [Fraction(1, two) if kind == "middle" else Fraction(2, one + two)
+                                      for kind, one, two in plan(k, rooms)]
             self.assertEqual(sorted(Fraction(*thin) for thin in thinnest(told)), sorted(wanted))
             self.assertEqual(max(Fraction(*thin) for thin in thinnest(told)), Fraction(*price(k, rooms)))
 

@@ -109,8 +109,8 @@ class Lengths(Case):
             self.assertEqual(made_lengths(word, lengths), lengths)
 
     def test_wrong_ones(self):
-        for lengths, at in (((), -1), ((0,), -1), ((0, 0, 0), -1), ((None, None, None), -1), ((-1, 0), 0), ((0, 5001), 1),
-                            ((5001, 5001), 0), ((True, 0), 0), ((0, False), 1), ((0, "0"), 1), ((None, 0), 0),
+        for lengths, at in (((), -1), ((0,), -1), ((0, 0, 0), -1), ((None, None, None), -1), ((-1, 0), 0),
+                            ((0, 5001), 1), ((5001, 5001), 0), ((True, 0), 0), ((0, False), 1), ((0, "0"), 1), ((None, 0), 0),
                             ((0, (0,)), 1), (([0], 0), 0), ((0, 10 ** 40), 1), ((nested(19), 0), 0)):
             self.refused(BadLengths, at, made_lengths, (0,), lengths)
             self.refused(BadLengths, at, bare, (0,), lengths)

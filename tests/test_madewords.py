@@ -18,7 +18,8 @@ from undertwo.prices import sure_from
 CHANCES = Chances(192)
 SOME = [CHANCES.machine(letters, rooms, 3 * rooms + CHANCES.below(4))
         for letters in (1, 2) for rooms in (2, 3, 4) for _ in range(6)] + [
-    EVEN, THIRD, all_words(1, (0,)), all_words(3, (0, 2)), empty_word(1), chain(2), chain(4), ring(3, (0,)), ring(5, (1,))]
+    EVEN, THIRD, all_words(1, (0,)), all_words(3, (0, 2)), empty_word(1), chain(2), chain(4), ring(3, (0,)),
+    ring(5, (1,))]
 
 
 def made_stretch(k, rooms, room, less):

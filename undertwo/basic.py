@@ -1,4 +1,4 @@
-"""What the other modules share: numbers within bounds, rising tuples, fractions."""
+"""What the other modules share: numbers within bounds, rising tuples, fractions, what steps lead to."""
 
 from math import gcd
 
@@ -41,3 +41,19 @@ def lowest(above, below):
     """The fraction above / below, in lowest terms."""
     common = gcd(above, below)
     return (above // common, below // common)
+
+
+def reached(firsts, steps):
+    """All that can be come to by steps from the first ones, these with them; the steps tell for each thing
+    what it leads to."""
+    met = list(firsts)
+    seen = {thing: True for thing in met}
+    at = 0
+    while at < len(met):
+        goals = steps[met[at]]
+        for goal in goals:
+            if goal not in seen:
+                seen[goal] = True
+                met.append(goal)
+        at += 1
+    return seen

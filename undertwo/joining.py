@@ -1,8 +1,8 @@
 """The least sure machines of laws that are made of other laws."""
 
-from undertwo.errors import TooMany, Unlike
+from undertwo.errors import TooMany
 from undertwo.machines import leads_of, made_machine
-from undertwo.sure import MOST_LOTS, both_sure, least_of, lots_of, pairs_met, sure_of
+from undertwo.sure import MOST_LOTS, both_sure, check_letters, least_of, lots_of, pairs_met, sure_of
 
 IN_EITHER = ((True, True), (True, False), (False, True))
 IN_BOTH = ((True, True),)
@@ -63,10 +63,7 @@ def least_whole(letters, rooms, starts, ends, moves):
 
 def behind(one, two):
     """The words that the first one lets, each followed by a word that the second one lets."""
-    made_machine(one)
-    made_machine(two)
-    if one[0] != two[0]:
-        raise Unlike(0)
+    check_letters(one, two)
     letters, rooms, starts, ends, moves = one
     more_starts, more_ends, more_moves = moved(two, rooms)
     all_starts = starts + more_starts if lets_empty_word(one) else starts

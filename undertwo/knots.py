@@ -1,6 +1,6 @@
 """Knots of an inspector's steps, and the fewest dots that they can be gone round with."""
 
-from undertwo.basic import lowest
+from undertwo.basic import lowest, reached
 from undertwo.errors import TooMany
 from undertwo.inspectors import made_inspector
 from undertwo.lines import DOT
@@ -32,21 +32,6 @@ def turned_steps(steps):
     return back
 
 
-def reached(steps, first):
-    """Which indexes can be reached by steps from the first one, this one itself with them."""
-    met = [first]
-    seen = {first: True}
-    at = 0
-    while at < len(met):
-        inner = steps[met[at]]
-        for other in inner:
-            if other not in seen:
-                seen[other] = True
-                met.append(other)
-        at += 1
-    return seen
-
-
 def knots_of(steps):
     """The rising lists of the indexes of each knot, in the order of their least ones."""
     back = turned_steps(steps)
@@ -54,8 +39,8 @@ def knots_of(steps):
     done = {}
     for first in range(len(steps)):
         if first not in done:
-            behind = reached(back, first)
-            knot = sorted([at for at in reached(steps, first) if at in behind])
+            behind = reached([first], back)
+            knot = sorted([at for at in reached([first], steps) if at in behind])
             done.update({at: True for at in knot})
             if len(knot) > 1 or first in steps[first]:
                 found.append(knot)

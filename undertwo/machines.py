@@ -1,6 +1,6 @@
 """Machines, their words and their runs."""
 
-from undertwo.basic import is_rising, is_within, wrong_at
+from undertwo.basic import is_rising, is_within, reached, wrong_at
 from undertwo.errors import BadMachine, BadWord
 
 MOST_LETTERS = 4
@@ -111,29 +111,19 @@ def lets(machine, word):
     return first_run(machine, word) is not None
 
 
-def come_to(firsts, steps):
-    """The first rooms, and all rooms that steps from room to room lead to from them."""
-    behind = {}
+def step_lists(rooms, steps):
+    """For each room the list of the rooms that the steps lead to."""
+    lists = [[] for room in range(rooms)]
     for one, two in steps:
-        behind.setdefault(one, []).append(two)
-    met = list(firsts)
-    seen = {room: True for room in met}
-    at = 0
-    while at < len(met):
-        found = behind.get(met[at], ())
-        for room in found:
-            if room not in seen:
-                seen[room] = True
-                met.append(room)
-        at += 1
-    return met
+        lists[one].append(two)
+    return lists
 
 
 def trimmed(machine):
     """The machine with just those rooms that stand in a run of some word."""
     letters, rooms, starts, ends, moves = made_machine(machine)
-    ahead = come_to(starts, [(one, two) for one, letter, two in moves])
-    back = come_to(ends, [(two, one) for one, letter, two in moves])
+    ahead = reached(starts, step_lists(rooms, [(one, two) for one, letter, two in moves]))
+    back = reached(ends, step_lists(rooms, [(two, one) for one, letter, two in moves]))
     used = [room for room in range(rooms) if room in ahead and room in back]
     number = {room: at for at, room in enumerate(used)}
     kept = [(number[one], letter, number[two]) for one, letter, two in moves if one in number and two in number]

@@ -3,9 +3,8 @@
 from undertwo.errors import TooMany
 from undertwo.inspectors import MOST_WORDS
 from undertwo.lines import EMPTY, END, FIRST_STATION
-from undertwo.painter import check_view_length, small_trimmed
+from undertwo.painter import small_trimmed
 from undertwo.plans import MOST_LESS, code, parts_of, plan, shortest, with_gaps
-from undertwo.rows import made_k
 
 
 def begun(ahead, unit, many):
@@ -60,8 +59,7 @@ def station_words(k, before, letter, behind):
 def inspector(machine, k):
     """The inspector of the lines that can be painted for the machine."""
     letters, rooms, starts, ends, moves = small_trimmed(machine)
-    made_k(k)
-    check_view_length(k, rooms)
+    m = shortest(k, rooms)
     words = {}
     heads = []
     for room in range(rooms):
@@ -74,4 +72,4 @@ def inspector(machine, k):
         add_words(words, [word[::-1] for word in border_words(k, heads[room])])
     for before, letter, behind in moves:
         add_words(words, station_words(k, heads[before], letter, heads[behind]))
-    return (k, shortest(k, rooms), tuple(sorted(words)))
+    return (k, m, tuple(sorted(words)))

@@ -1,10 +1,9 @@
 """Lines that are dotted so that they tell by which run of a machine their stations are let."""
 
-from undertwo.errors import NotLet, Short, TooMany, TooThin
+from undertwo.errors import NotLet, Short, TooMany
 from undertwo.lines import check_cells, line_of, made_lengths
 from undertwo.machines import first_run, made_word, trimmed
 from undertwo.plans import MOST_ROOMS_OF_PLAN, shortest, stretch
-from undertwo.prices import sure_from
 from undertwo.rows import made_k
 
 
@@ -16,12 +15,6 @@ def small_trimmed(machine):
     return small
 
 
-def check_view_length(k, rooms):
-    """Refuses a k that is too small for a plan for so many rooms."""
-    if k < sure_from(rooms):
-        raise TooThin(sure_from(rooms))
-
-
 def paint(machine, k, word, lengths):
     """The line with these stations and lengths, its plain stretches dotted by the least run."""
     small = small_trimmed(machine)
@@ -29,11 +22,11 @@ def paint(machine, k, word, lengths):
     made_word(machine, word)
     made_lengths(word, lengths)
     rooms = small[1]
-    check_view_length(k, rooms)
+    # To ask for the shortest size refuses a k that is too small.
+    least = shortest(k, rooms)
     run = first_run(small, word)
     if run is None:
         raise NotLet(0)
-    least = shortest(k, rooms)
     for at, size in enumerate(lengths):
         if size < least:
             raise Short(at)

@@ -96,12 +96,17 @@ def classes(machine):
     return trimmed(sure_of(machine))[1]
 
 
-def both_sure(one, two):
-    """The sure machines of two machines with the same letters."""
+def check_letters(one, two):
+    """Refuses what are not two machines with as many letters."""
     made_machine(one)
     made_machine(two)
     if one[0] != two[0]:
         raise Unlike(0)
+
+
+def both_sure(one, two):
+    """The sure machines of two machines with the same letters."""
+    check_letters(one, two)
     return (sure_of(one), sure_of(two))
 
 
