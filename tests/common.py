@@ -26,10 +26,11 @@ class Case(unittest.TestCase):
 
     def refused(self, kind, what, action, *given, **named):
         """The action raises just this error, under `Refused` alone, with just this in `what`."""
-        with self.assertRaises(Refused, msg=f"{action.__name__}{given}{named}") as held:
+        asked = f"{action.__name__}{given}{named}"[:600]
+        with self.assertRaises(Refused, msg=asked) as held:
             action(*given, **named)
         error = held.exception
-        told = f"{action.__name__}{given}{named}: {error!r} {error.what!r}"
+        told = f"{asked}: {error!r} {error.what!r}"
         self.assertIs(type(error), kind, told)
         self.assertEqual(error.what, what, told)
         self.assertIs(type(error.what), type(what), told)
@@ -346,3 +347,28 @@ WRONG_INSPECTOR = wrong_tuples(errors.BadInspector) + [
         ((None,), 0), (((0, 0), None), 1), (((0,),), 0), (((0, 0, 0),), 0), (((0, 7),), 0), (((0, -1),), 0),
         (((0, 0), (0, 1), (1, 7)), 2), (((True, 0),), 0), (((0, 0), (0, True)), 1), ((((0,), 0),), 0), (([0, 0],), 0),
         (((0, 0), "01"), 1), (((0, 0), (0, 0)), 1), (((0, 3), (0, 0)), 1), (((0, 0), (0, 2), (0, 2), (0, 9)), 2))]
+
+WRONG_LIMIT = [(thing, errors.BadLimit, 0) for thing in NO_TUPLES + (
+    (), (0,), (0, 1, 1), (0, 0), (1, 0), (-1, 2), (0, 2), (2, 4), (3, 2), (2, 2), (1000, 1000), (1, 1001),
+    (1001, 1002), (0, -1), (-1, -2), (True, 1), (0, True), (False, 1), ("0", 1), (0, "1"), (None, 1), (0, None),
+    ((0,), 1), (0, (1,)), ([0], 1), (0, [1]), [0, 1], ((0, 1),), nested(20), (10 ** 40, 10 ** 40 + 1), (500, 1000))]
+
+NO_TEXTS = (True, False, None, 0, 1, -1, 10 ** 40, (), ("a",), [], ["a"], [["a"]], ("a", ("b",)), nested(20))
+
+# Not texts, too long ones, and ones with signs that texts do not have: what no reader looks at any further.
+WRONG_TEXT = [(thing, errors.BadText, -1) for thing in NO_TEXTS] + [
+    (" " * 20001, errors.BadText, 20000), (" " * 20000 + "\n", errors.BadText, 20000), ("\n", errors.BadText, 0),
+    ("a\tb", errors.BadText, 1), ("1 \x7f", errors.BadText, 2), ("\x1f", errors.BadText, 0),
+    ("?" * 30 + "\u00e9", errors.BadText, 30), ("\u00e9" * 20001, errors.BadText, 0), ("\ud800", errors.BadText, 0),
+    ("*\r\n", errors.BadText, 1), ("\x00", errors.BadText, 0)]
+
+NO_NAMES = ("", "A", "1", "1a", "aB", "a_", "a-b", "a b", " a", "a ", "a" * 13, "o", "any", "empty", "none", "dark",
+            "k", "m", "rooms", "starts", "ends", "law", "show", "drop", "back", "again", "least", "price", "paint",
+            "line", "\u00e9", "a\n", "0", "-", "(", "+") + NO_TEXTS
+
+WRONG_NAMES = wrong_tuples(errors.BadNames) + [
+    ((), errors.BadNames, -1), (("a", "b", "c", "d", "e"), errors.BadNames, -1), ((None,) * 5, errors.BadNames, -1),
+    (("b", "a"), errors.BadNames, 1), (("a", "a"), errors.BadNames, 1), (("a", "b", "b", None), errors.BadNames, 2),
+    (("a", "c", "b"), errors.BadNames, 2), (("a", "c", "d", "b"), errors.BadNames, 3), (("b", "A"), errors.BadNames, 1),
+    ("ab", errors.BadNames, -1), (["a", "b"], errors.BadNames, -1)] + [
+    ((name,), errors.BadNames, 0) for name in NO_NAMES] + [(("a", name), errors.BadNames, 1) for name in NO_NAMES]

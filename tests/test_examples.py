@@ -252,6 +252,150 @@ KNOTS = """
 ((((0, 0),), ((0, 1), (1, 0)), ((1, 1),)), ((0, 1), (1, 2), (1, 1)))
 """
 
+ROUNDS = """
+>>> from undertwo.knots import knots, thinnest
+>>> from undertwo.rounds import round_right, thin_round
+>>> free = (2, 4, ((0, 0, 1), (0, 1, 0), (0, 1, 1), (1, 0, 0), (1, 0, 1), (1, 1, 0), (1, 1, 1)))
+>>> knots(free), thinnest(free), thin_round(free, 0)
+((((0, 0), (0, 1), (1, 0), (1, 1)),), ((1, 3),), (3,))
+>>> round_right(free, 0, (3, 3)), round_right(free, 0, (2,)), round_right(free, 0, (4, 2))
+(True, False, False)
+>>> turn = (2, 4, ((0, 0, 0), (0, 1, 0), (1, 0, 1), (1, 1, 1)))
+>>> knots(turn), thinnest(turn)
+((((0, 0),), ((0, 1), (1, 0)), ((1, 1),)), ((0, 1), (1, 2), (1, 1)))
+>>> thin_round(turn, 0), thin_round(turn, 1), thin_round(turn, 2)
+((), (2,), (1,))
+"""
+
+KEPT = """
+>>> from undertwo.kept import kept
+>>> from undertwo.knots import knots, thinnest
+>>> from undertwo.madewords import inspector
+>>> one = inspector((1, 2, (0,), (0,), ((0, 0, 1), (1, 0, 0))), 4)
+>>> [len(knot) for knot in knots(one)], thinnest(one)
+([1, 15], ((0, 1), (1, 4)))
+>>> kept(one, 1, (1, 4)), kept(one, 2, (1, 5))
+((1, 2, (0,), (0,), ((0, 0, 1), (1, 0, 0))), (2, 1, (0,), (0,), ()))
+>>> every = (1, 2, ((0, 0), (0, 2), (0, 3), (2, 0), (3, 0)))
+>>> knots(every), kept(every, 1, (0, 1))
+((((0,),),), (1, 1, (0,), (0,), ((0, 0, 0),)))
+"""
+
+BEST = """
+>>> from undertwo.best import best_line
+>>> half = (1, 2, ((0, 1), (0, 2), (0, 3), (1, 0), (1, 1), (1, 2), (2, 0), (2, 1), (3, 0)))
+>>> best_line(half, (0,), (4, 2)), best_line(half, (), (3,)), best_line(half, (1,), (2, 2))
+((0, 1, 1, 0, 3, 0, 1), (0, 1, 0), None)
+"""
+
+BREAKER = """
+>>> from undertwo.breaker import broken, find_line
+>>> half = (1, 2, ((0, 1), (0, 2), (0, 3), (1, 0), (1, 1), (1, 2), (2, 0), (2, 1), (3, 0)))
+>>> even = (1, 2, (0,), (0,), ((0, 0, 1), (1, 0, 0)))
+>>> broken(half, even, (1, 2))
+('passes', (0,), (1, 0, 3, 0, 1))
+>>> broken(half, even, (1, 3))
+('thick', (), (1, 2), 2)
+>>> broken(half, (1, 1, (0,), (0,), ((0, 0, 0),)), (1, 2)) is None
+True
+>>> find_line(half, (0, 0)), find_line(half, (1,))
+((1, 0, 3, 0, 1, 0, 3, 0, 1), None)
+"""
+
+TRACK = """
+>>> from undertwo.lines import dots_in
+>>> from undertwo.seen import room_seen
+>>> from undertwo.track import Track
+>>> some = (1, 2, (0,), (1,), ((0, 0, 1), (1, 0, 1)))
+>>> track = Track(some, 4, (0,), (12, 12))
+>>> track.line()[12:]
+(3, 1, 1, 1, 0, 0, 0, 1, 0, 0, 0, 1, 1)
+>>> track.resize(1, 25), dots_in(track.line())
+(1, (0, 9))
+>>> track.put(1, 0, 12), track.lengths(), track.rooms(), dots_in(track.line())
+(2, (12, 12, 12), (0, 1, 1), (0, 6, 6))
+>>> track.drop(0), track.lengths(), dots_in(track.line())
+(1, (25, 12), (0, 6))
+>>> track.back(), track.back(), track.again()
+((0, 0), (0,), (0, 0))
+>>> track.line()[19], dots_in(track.wiped(19))
+(1, (0, 5, 6))
+>>> track.seen(0), track.seen(13), track.seen(21)
+(0, 1, 1)
+>>> room_seen(some, 5, (0, 1, 0, 0, 1)), room_seen(some, 5, (1, 1, 0, 0, 0)), room_seen(some, 5, (0, 0, 0, 0, 0))
+(1, None, 0)
+"""
+
+LAWTEXTS = """
+>>> from undertwo.lawtexts import made_names, print_machine, read_law, read_machine
+>>> made_names(("off", "on"))
+('off', 'on')
+>>> read_law(("a",), "(a a)*")
+(1, 2, (0,), (0,), ((0, 0, 1), (1, 0, 0)))
+>>> read_law(("a",), "a?"), read_law(("a",), "!empty")
+((1, 3, (0,), (0, 1), ((0, 0, 1), (1, 0, 2), (2, 0, 2))), (1, 2, (0,), (1,), ((0, 0, 1), (1, 0, 1))))
+>>> read_law(("a", "b"), "any* a any any")[1:4]
+(8, (0,), (4, 5, 6, 7))
+>>> read_law(("a", "b"), "!a*|a") == read_law(("a", "b"), "(!(a*)) | a")
+True
+>>> read_law(("a", "b"), "any*-a|a") == read_law(("a", "b"), "any*")
+True
+>>> print_machine(("a",), (1, 2, (0,), (0,), ((0, 0, 1), (1, 0, 0))))
+'rooms 2; starts 0; ends 0; 0 a 1, 1 a 0'
+>>> read_machine(("off", "on"), "rooms 2;starts 1 0;ends -;1 on 0,0 off 1")
+(2, 2, (0, 1), (), ((0, 0, 1), (1, 1, 0)))
+"""
+
+LINETEXTS = """
+>>> from undertwo.linetexts import print_line, read_line
+>>> print_line(("a",), (0, 0, 1, 0, 3, 0)), print_line(("a",), ())
+('2 o 1 a 1', '-')
+>>> read_line(("a", "b"), "1 1 o b 3")
+(0, 0, 1, 4, 0, 0, 0)
+"""
+
+ROWTEXTS = """
+>>> from undertwo.rowtexts import print_rows, read_rows
+>>> print_rows(((6, 2), (), (4,))), print_rows(())
+('6 2 | dark | 4', 'none')
+>>> read_rows("dark|6 2")
+((), (6, 2))
+"""
+
+INSPECTORTEXTS = """
+>>> from undertwo.inspectortexts import print_inspector, read_inspector
+>>> print_inspector((1, 2, ((0, 0), (0, 3), (2, 0))))
+'k 1 m 2: .. .a #.'
+>>> read_inspector("k 1 m 2:#. .a ..")
+(1, 2, ((0, 0), (0, 3), (2, 0)))
+"""
+
+SESSION = """
+>>> from undertwo.session import Session
+>>> from undertwo.store import Store, read_store
+>>> even = (1, 2, (0,), (0,), ((0, 0, 1), (1, 0, 0)))
+>>> store = Store()
+>>> store.put("even", ("a",), even), store.put("never", ("a", "b"), (2, 0, (), (), ()))
+(None, None)
+>>> store.text()
+'even (a) rooms 2; starts 0; ends 0; 0 a 1, 1 a 0 | never (a b) rooms 0; starts -; ends -; -'
+>>> read_store(store.text()).pair("even") == (("a",), even)
+True
+>>> store.drop("even"), store.names(), store.back(), store.again()
+(None, ('never',), ('even', 'never'), ('never',))
+>>> session = Session()
+>>> [session.row(row) for row in ["line", "law even (a b) b* (a b* a b*)*", "show even", "least even", "price even 4"]]
+['refused: NoTrack 0', 'rooms 2', 'rooms 2; starts 0; ends 0; 0 a 1, 0 b 0, 1 a 0, 1 b 1', 'rooms 2 sure 2 price 1 1 at 4', '1 4']
+>>> [session.row(row) for row in ["paint even 4 : 12 a 12", "paint even 4 : 12 o", "paint odd 4 : 12", "paint even 4 : 12 a 12 a 12"]]
+['refused: NotLet 0', 'refused: BadText 18', 'refused: NoLaw odd', 'dots 6']
+>>> [session.row(row) for row in ["line", "seen 0", "seen 14", "wipe 13"]]
+['12 a o o o 3 o 3 o o a 12', 'room 0', 'room 1', 'no 13']
+>>> [session.row(row) for row in ["size 1 40", "put 1 b 20", "undo", "redo", "put 0 c 5", "put 0 a 15"]]
+['repainted 1', 'repainted 3', 'a a', 'a b a', 'refused: NoName 0', 'refused: BadSize 0']
+>>> [session.row(row) for row in ["drop even", "cut 1", "back"]]
+['-', 'repainted 2', 'even']
+"""
+
 
 class Examples(unittest.TestCase):
 
@@ -322,6 +466,36 @@ class Examples(unittest.TestCase):
 
     def test_knots(self):
         self.check(KNOTS)
+
+    def test_rounds(self):
+        self.check(ROUNDS)
+
+    def test_kept(self):
+        self.check(KEPT)
+
+    def test_best(self):
+        self.check(BEST)
+
+    def test_breaker(self):
+        self.check(BREAKER)
+
+    def test_track(self):
+        self.check(TRACK)
+
+    def test_lawtexts(self):
+        self.check(LAWTEXTS)
+
+    def test_linetexts(self):
+        self.check(LINETEXTS)
+
+    def test_rowtexts(self):
+        self.check(ROWTEXTS)
+
+    def test_inspectortexts(self):
+        self.check(INSPECTORTEXTS)
+
+    def test_session(self):
+        self.check(SESSION)
 
     def test_the_examples_of_the_readme(self):
         parts = README.read_text(encoding="utf-8").split("```")[1::2]

@@ -46,6 +46,12 @@ def without_docstrings(tree):
     return [node for node in ast.walk(tree) if id(node) not in docs]
 
 
+def own_methods():
+    """The names of all methods of the package."""
+    return {node.name for _, tree in trees() for kind in ast.walk(tree) if isinstance(kind, ast.ClassDef)
+            for node in kind.body if isinstance(node, ast.FunctionDef)}
+
+
 def parents(tree):
     return {id(child): node for node in ast.walk(tree) for child in ast.iter_child_nodes(node)}
 
@@ -154,9 +160,11 @@ class Form(unittest.TestCase):
     def test_names(self):
         for path, tree in trees():
             for name in bound_names(tree):
-                self.assertRegex(name, r"^[A-Za-z][A-Za-z0-9_]*$|^_$|^__init__$", path)
+                self.assertRegex(name, r"^_?[A-Za-z][A-Za-z0-9_]*$|^_$|^__init__$|^__class__$|^__name__$", path)
+                self.assertNotRegex(name, r"^_(wall|pe_|dcw_|enum_|cm_|twin_re_|lay_|law_|stub_|sre)", path)
+                self.assertNotRegex(name, r"^_(cold|tuplegetter|outside|record|written_out|member_names)[0-9_]*$", path)
                 self.assertNotIn(name, BARRED, path)
-                self.assertNotIn(name, set(dir(builtins)) - {"_"}, path)
+                self.assertNotIn(name, set(dir(builtins)) - {"_", "__name__"}, path)
             used = {node.id for node in ast.walk(tree) if isinstance(node, ast.Name)}
             self.assertFalse(used & WORDS, path)
             imports = {alias.name for node in tree.body if isinstance(node, ast.ImportFrom) for alias in node.names}
@@ -167,10 +175,50 @@ class Form(unittest.TestCase):
                 if isinstance(node, ast.arg):
                     self.assertNotIn(node.arg, imports, path)
 
+    def test_the_name_of_a_class_is_read_in_one_way(self):
+        for path, tree in trees():
+            above = parents(tree)
+            for node in ast.walk(tree):
+                if isinstance(node, ast.Attribute) and node.attr == "__class__":
+                    self.assertIsInstance(node.value, ast.Name, path)
+                    self.assertEqual(above[id(node)].attr, "__name__", path)
+                if isinstance(node, ast.Attribute) and node.attr == "__name__":
+                    self.assertEqual(node.value.attr, "__class__", path)
+
+    def test_classes(self):
+        methods = own_methods()
+        for path, tree in trees():
+            for kind in ast.walk(tree):
+                if isinstance(kind, ast.ClassDef):
+                    names = [node.name for node in kind.body if isinstance(node, ast.FunctionDef)]
+                    self.assertEqual(len(names), len(set(names)), kind.name)
+                    for node in kind.body:
+                        doc = isinstance(node, ast.Expr) and isinstance(node.value, ast.Constant)
+                        self.assertTrue(doc or isinstance(node, ast.FunctionDef), (path, node.lineno))
+            for node in ast.walk(tree):
+                if isinstance(node, ast.Attribute) and isinstance(node.ctx, ast.Store):
+                    self.assertIsInstance(node.value, ast.Name, (path, node.lineno))
+                    self.assertNotIn(node.attr, methods | METHODS, (path, node.lineno))
+
+    def test_tables_of_functions(self):
+        for path, tree in trees():
+            known = set()
+            for node in tree.body:
+                if isinstance(node, ast.Assign):
+                    named = {inner.id for inner in ast.walk(node.value) if isinstance(inner, ast.Name)}
+                    self.assertLessEqual(named, known, path)
+                if isinstance(node, ast.FunctionDef):
+                    known.add(node.name)
+
     def test_calls(self):
+        methods = METHODS | own_methods()
         for path, tree in trees():
             own = {node.name for node in ast.walk(tree) if isinstance(node, (ast.FunctionDef, ast.ClassDef))}
             own |= {alias.name for node in tree.body if isinstance(node, ast.ImportFrom) for alias in node.names}
+            # A function of a table is given a name before it is called.
+            own |= {node.targets[0].id for node in ast.walk(tree) if isinstance(node, ast.Assign)
+                    and isinstance(node.value, ast.Subscript) and isinstance(node.value.value, ast.Name)
+                    and node.value.value.id.isupper() and isinstance(node.targets[0], ast.Name)}
             for node in ast.walk(tree):
                 if isinstance(node, ast.Call):
                     where = (path.name, node.lineno)
@@ -179,7 +227,7 @@ class Form(unittest.TestCase):
                     else:
                         self.assertIsInstance(node.func, ast.Attribute, where)
                         if node.func.attr != "__init__":
-                            self.assertIn(node.func.attr, METHODS, where)
+                            self.assertIn(node.func.attr, methods, where)
                             self.assertEqual(node.keywords, [], where)
                     if isinstance(node.func, ast.Name) and node.func.id in BUILTINS:
                         self.assertLessEqual({word.arg for word in node.keywords}, {"default", "key", "reverse"}, where)

@@ -7,9 +7,9 @@ import unittest
 
 from tests import common
 from tests.common import (EVEN, NO_NUMBERS, NO_TUPLES, THIRD, WRONG_INSPECTOR, WRONG_K, WRONG_LENGTHS_OF_3,
-                          WRONG_LINE_OF_2, WRONG_LINE_OF_4, WRONG_LOT_OF_2, WRONG_MACHINE, WRONG_ROW, WRONG_ROWS,
-                          WRONG_TS, WRONG_VIEW_OF_3, WRONG_WEIGHTS, WRONG_WORD_OF_2, WRONG_WORD_OF_4, Case,
-                          wrong_numbers)
+                          WRONG_LIMIT, WRONG_LINE_OF_2, WRONG_LINE_OF_4, WRONG_LOT_OF_2, WRONG_MACHINE, WRONG_NAMES,
+                          WRONG_ROW, WRONG_ROWS, WRONG_TEXT, WRONG_TS, WRONG_VIEW_OF_3, WRONG_WEIGHTS,
+                          WRONG_WORD_OF_2, WRONG_WORD_OF_4, Case, all_words, wrong_numbers)
 from undertwo import errors
 
 NO_MANY = wrong_numbers(1, 30, errors.BadMany)
@@ -25,6 +25,8 @@ NO_ROOMS_OF_CODE = wrong_numbers(2, 5, errors.BadMany)
 NO_ROOM_OF_2 = [(thing, errors.BadRoom, thing) for thing in NO_NUMBERS + (-1, 2, 10 ** 40)]
 NO_ROOM_OF_CODE = NO_ROOM_OF_2 + [(0, errors.BadRoom, 0)]
 NO_SIZE_FROM_12 = [(thing, errors.BadSize, 12) for thing in NO_NUMBERS + (-1, 0, 11, 5001, 10 ** 40)]
+NO_KNOT_OF_1 = [(thing, errors.BadKnot, 0) for thing in NO_NUMBERS + (-1, 1, 10 ** 40)]
+NO_LETTERS = wrong_numbers(1, 4, errors.BadMany)
 EYE = (1, 2, ((0, 0), (0, 2), (0, 3), (2, 0), (3, 0)))
 # Lets a station 0 and then a station 1; two rooms.
 SOME_PAINTED = (2, 2, (0,), (0,), ((0, 0, 1), (1, 1, 0)))
@@ -118,6 +120,28 @@ FUNCTIONS = (
     ("madewords", "inspector", ("machine", "k"), (EVEN, 4), (WRONG_MACHINE, WRONG_K)),
     ("knots", "knots", ("inspector",), (EYE,), (WRONG_INSPECTOR,)),
     ("knots", "thinnest", ("inspector",), (EYE,), (WRONG_INSPECTOR,)),
+    ("rounds", "thin_round", ("inspector", "knot"), (EYE, 0), (WRONG_INSPECTOR, NO_KNOT_OF_1)),
+    ("rounds", "round_right", ("inspector", "knot", "thing"), (EYE, 0, ()), (WRONG_INSPECTOR, NO_KNOT_OF_1, ())),
+    ("kept", "made_limit", ("thing",), ((1, 2),), (WRONG_LIMIT,)),
+    ("kept", "kept", ("inspector", "letters", "limit"), (EYE, 1, (1, 2)), (WRONG_INSPECTOR, NO_LETTERS, WRONG_LIMIT)),
+    ("best", "best_line", ("inspector", "word", "lengths"), (EYE, (0, 0), (2, 2, 3)),
+     (WRONG_INSPECTOR, WRONG_WORD_OF_4, WRONG_LENGTHS_OF_3)),
+    ("breaker", "find_line", ("inspector", "word"), (EYE, (0, 0)), (WRONG_INSPECTOR, WRONG_WORD_OF_4)),
+    ("breaker", "broken", ("inspector", "machine", "limit"), (EYE, EVEN, (0, 1)),
+     (WRONG_INSPECTOR, WRONG_MACHINE, WRONG_LIMIT)),
+    ("seen", "room_seen", ("machine", "k", "view"), (all_words(1, (0,)), 3, (0, 0, 0)),
+     (WRONG_MACHINE, WRONG_K, WRONG_VIEW_OF_3)),
+    ("lawtexts", "made_names", ("thing",), (("off", "on"),), (WRONG_NAMES,)),
+    ("lawtexts", "read_law", ("names", "text"), (("a",), "(a a)*"), (WRONG_NAMES, WRONG_TEXT)),
+    ("lawtexts", "read_machine", ("names", "text"), (("a",), "rooms 0; starts -; ends -; -"),
+     (WRONG_NAMES, WRONG_TEXT)),
+    ("lawtexts", "print_machine", ("names", "machine"), (("a",), EVEN), (WRONG_NAMES, WRONG_MACHINE)),
+    ("linetexts", "read_line", ("names", "text"), (("a",), "3 a o"), (WRONG_NAMES, WRONG_TEXT)),
+    ("linetexts", "print_line", ("names", "line"), (("a",), (0, 3, 1)), (WRONG_NAMES, WRONG_LINE_OF_4)),
+    ("rowtexts", "read_rows", ("text",), ("3 1 | dark",), (WRONG_TEXT,)),
+    ("rowtexts", "print_rows", ("rows",), (((3, 1), ()),), (WRONG_ROWS,)),
+    ("inspectortexts", "read_inspector", ("text",), ("k 1 m 2: -",), (WRONG_TEXT,)),
+    ("inspectortexts", "print_inspector", ("inspector",), (EYE,), (WRONG_INSPECTOR,)),
 )
 
 
@@ -181,6 +205,10 @@ class Wrong(Case):
         for thing in (EVEN, THIRD, EYE):
             self.is_false(is_row(thing))
             self.is_false(is_machine(thing) and is_inspector(thing))
+        round_right = function("rounds", "round_right")
+        for thing, _, _ in WRONG_ROW + WRONG_MACHINE + WRONG_INSPECTOR:
+            if thing != ():
+                self.is_false(round_right(EYE, 0, thing))
         fool_right = function("fools", "fool_right")
         for thing, _, _ in WRONG_MACHINE + WRONG_INSPECTOR + WRONG_ROW:
             if thing != ():

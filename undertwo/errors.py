@@ -8,6 +8,8 @@ class Refused(ValueError):
         # No message is made of it: it may be too great to be written.
         ValueError.__init__(self)
         self.what = what
+        # A session tells the class and `what` of an error.
+        self.kind = self.__class__.__name__
 
 
 class BadK(Refused):

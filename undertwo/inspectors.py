@@ -42,6 +42,17 @@ def is_inspector(thing):
     return True
 
 
+def steps_by(k, words):
+    """The rising list of the tuples that are the first or the last k cells of these words, and for each the
+    list of the indexes of those that a word leads to, rising; the last cell tells what is stepped to."""
+    tuples = sorted({cells for word in words for cells in (word[:k], word[1:])})
+    number = {cells: at for at, cells in enumerate(tuples)}
+    steps = [[] for cells in tuples]
+    for word in words:
+        steps[number[word[:k]]].append(number[word[1:]])
+    return (tuples, steps)
+
+
 def words_at(k, line):
     """The words of the line, in the order of the places at which they begin."""
     seen = (END,) * k + line + (END,) * k

@@ -2,7 +2,7 @@
 
 from undertwo.basic import lowest, reached
 from undertwo.errors import TooMany
-from undertwo.inspectors import made_inspector
+from undertwo.inspectors import made_inspector, steps_by
 from undertwo.lines import DOT
 
 MOST_IN_STEPS = 1000
@@ -12,14 +12,9 @@ def steps_of(inspector):
     """The rising list of the tuples of cells in steps, and for each the list of the indexes of those that
     it steps to."""
     k, m, words = made_inspector(inspector)
-    plain = [word for word in words if max(word) <= DOT]
-    tuples = sorted({cells for word in plain for cells in (word[:k], word[1:])})
+    tuples, steps = steps_by(k, [word for word in words if max(word) <= DOT])
     if len(tuples) > MOST_IN_STEPS:
         raise TooMany(MOST_IN_STEPS)
-    number = {cells: at for at, cells in enumerate(tuples)}
-    steps = [[] for cells in tuples]
-    for word in plain:
-        steps[number[word[:k]]].append(number[word[1:]])
     return (tuples, steps)
 
 

@@ -1,0 +1,118 @@
+"""Painted lines under edits."""
+
+from undertwo.basic import is_within
+from undertwo.errors import BadAt, BadLetter, BadPlace, BadSize, NothingAgain, NothingBack
+from undertwo.lines import DOT, EMPTY, GREATEST_LENGTH, stretches_of
+from undertwo.machines import first_run, trimmed
+from undertwo.painter import paint
+from undertwo.seen import room_seen
+
+MOST_UNDONE = 50
+
+
+def repainted(before, after):
+    """How many stretches of the line `after` are not as the stretch of the same number of the line before."""
+    old = stretches_of(before)
+    new = stretches_of(after)
+    return len([at for at, cells in enumerate(new) if at >= len(old) or cells != old[at]])
+
+
+class Track:
+    """A painted line under edits."""
+
+    def __init__(self, machine, k, word, lengths):
+        # What is painted: the word, the lengths, and the line that was painted for them.
+        self._now = (word, lengths, paint(machine, k, word, lengths))
+        self._machine = machine
+        self._k = k
+        self._past = []
+        self._undone = []
+
+    def line(self):
+        """The painted line."""
+        return self._now[2]
+
+    def word(self):
+        """The word of the line."""
+        return self._now[0]
+
+    def lengths(self):
+        """The lengths of the line."""
+        return self._now[1]
+
+    def rooms(self):
+        """The rooms of the stretches of the line."""
+        return first_run(trimmed(self._machine), self.word())
+
+    def put(self, at, letter, left):
+        """Makes a cell of a stretch a station; returns how many stretches are repainted."""
+        self._check_stretch(at)
+        if not is_within(letter, 0, self._machine[0] - 1):
+            raise BadLetter(letter)
+        word, lengths, line = self._now
+        if not is_within(left, 0, lengths[at] - 1):
+            raise BadSize(0)
+        parts = (left, lengths[at] - 1 - left)
+        return self._granted((*word[:at], letter, *word[at:]), (*lengths[:at], *parts, *lengths[at + 1:]))
+
+    def drop(self, at):
+        """Makes a station a plain cell; returns how many stretches are repainted."""
+        word, lengths, line = self._now
+        if not is_within(at, 0, len(word) - 1):
+            raise BadAt(at)
+        whole = lengths[at] + 1 + lengths[at + 1]
+        return self._granted((*word[:at], *word[at + 1:]), (*lengths[:at], whole, *lengths[at + 2:]))
+
+    def resize(self, at, size):
+        """Gives a stretch another size; returns how many stretches are repainted."""
+        self._check_stretch(at)
+        if not is_within(size, 0, GREATEST_LENGTH):
+            raise BadSize(0)
+        word, lengths, line = self._now
+        return self._granted(word, (*lengths[:at], size, *lengths[at + 1:]))
+
+    def back(self):
+        """Undoes the last edit that is not undone; returns the word."""
+        if not self._past:
+            raise NothingBack(0)
+        self._undone.append(self._now)
+        self._now = self._past.pop()
+        return self.word()
+
+    def again(self):
+        """Does the last undone edit once more; returns the word."""
+        if not self._undone:
+            raise NothingAgain(0)
+        self._past.append(self._now)
+        self._now = self._undone.pop()
+        return self.word()
+
+    def wiped(self, place):
+        """The line without the dot at this place."""
+        line = self.line()
+        if not is_within(place, 0, len(line) - 1) or line[place] != DOT:
+            raise BadPlace(place)
+        return (*line[:place], EMPTY, *line[place + 1:])
+
+    def seen(self, place):
+        """The room that the k cells from this place on tell."""
+        if not is_within(place, 0, len(self.line()) - 1):
+            raise BadPlace(place)
+        view = self.line()[place:place + self._k]
+        if len(view) < self._k or max(view) > DOT:
+            raise BadPlace(place)
+        return room_seen(self._machine, self._k, view)
+
+    def _check_stretch(self, at):
+        """Refuses what is not the number of a stretch."""
+        if not is_within(at, 0, len(self.lengths()) - 1):
+            raise BadAt(at)
+
+    def _granted(self, word, lengths):
+        """Paints the line anew; returns how many stretches are repainted."""
+        before = self._now
+        line = paint(self._machine, self._k, word, lengths)
+        self._past = [*self._past, before][-MOST_UNDONE:]
+        self._undone = []
+        self._now = (word, lengths, line)
+        return repainted(before[2], line)
