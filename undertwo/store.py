@@ -1,6 +1,7 @@
 """Laws that are kept under names."""
 
-from undertwo.errors import BadName, Full, NoLaw, NothingAgain, NothingBack, TooMany, Twice, Unlike
+from undertwo.errors import BadName, Full, NoLaw, TooMany, Twice, Unlike
+from undertwo.history import History
 from undertwo.lawtexts import made_names, print_machine, taken_machine, taken_names
 from undertwo.machines import made_machine
 from undertwo.words import BETWEEN, NONE, Words, is_name
@@ -12,10 +13,8 @@ class Store:
     """Laws under names, each kept as a machine with the names of its letters."""
 
     def __init__(self):
-        # No change alters these dicts: each one makes a new one of the laws, and the old one may come back.
-        self._laws = {}
-        self._past = []
-        self._undone = []
+        # Its states are dicts of the laws. No change alters one, as it may come back: each makes a new one.
+        self._history = History({}, None)
 
     def put(self, name, names, machine):
         """Keeps the machine, with these names of its letters, under the name."""
@@ -25,53 +24,44 @@ class Store:
         made_machine(machine)
         if machine[0] != len(names):
             raise Unlike(0)
-        if name not in self._laws and len(self._laws) == MOST_LAWS:
+        laws = self._history.now()
+        if name not in laws and len(laws) == MOST_LAWS:
             raise Full(MOST_LAWS)
-        self._change({**self._laws, name: (names, machine)})
+        self._history.change({**laws, name: (names, machine)})
 
     def drop(self, name):
         """Removes the name and its machine."""
         self.pair(name)
-        self._change({other: self._laws[other] for other in self._laws if other != name})
+        laws = self._history.now()
+        self._history.change({other: laws[other] for other in laws if other != name})
 
     def names(self):
         """The names that are there, ascending."""
-        return tuple(sorted(self._laws))
+        return tuple(sorted(self._history.now()))
 
     def pair(self, name):
         """The names and the machine that are kept under the name."""
+        laws = self._history.now()
         # What is no text may be no key either.
-        if not isinstance(name, str) or name not in self._laws:
+        if not isinstance(name, str) or name not in laws:
             raise NoLaw(name)
-        return self._laws[name]
+        return laws[name]
 
     def back(self):
         """Undoes the last change that is not undone; returns the names."""
-        if not self._past:
-            raise NothingBack(0)
-        self._undone.append(self._laws)
-        self._laws = self._past.pop()
+        self._history.back()
         return self.names()
 
     def again(self):
         """Does the last undone change again; returns the names."""
-        if not self._undone:
-            raise NothingAgain(0)
-        self._past.append(self._laws)
-        self._laws = self._undone.pop()
+        self._history.again()
         return self.names()
 
     def text(self):
         """The text of all laws."""
-        if not self._laws:
+        if not self.names():
             return NONE
-        return " | ".join([law_text(name, self._laws[name]) for name in self.names()])
-
-    def _change(self, laws):
-        """Keeps these laws from now on, as a change."""
-        self._past.append(self._laws)
-        self._undone = []
-        self._laws = laws
+        return " | ".join([law_text(name, self.pair(name)) for name in self.names()])
 
 
 def law_text(name, pair):
@@ -114,5 +104,5 @@ def read_store(text):
     """A new store with the laws that the text tells."""
     store = Store()
     # To put them one by one would leave changes that can be undone.
-    store._laws = taken_laws(Words(text, ""))
+    store._history = History(taken_laws(Words(text, "")), None)
     return store

@@ -1,7 +1,8 @@
 """Painted lines under edits."""
 
 from undertwo.basic import is_within
-from undertwo.errors import BadAt, BadLetter, BadPlace, BadSize, NothingAgain, NothingBack
+from undertwo.errors import BadAt, BadLetter, BadPlace, BadSize
+from undertwo.history import History
 from undertwo.lines import DOT, EMPTY, GREATEST_LENGTH, stretches_of
 from undertwo.machines import first_run, trimmed
 from undertwo.painter import paint
@@ -21,24 +22,22 @@ class Track:
     """A painted line under edits."""
 
     def __init__(self, machine, k, word, lengths):
-        # What is painted: the word, the lengths, and the line that was painted for them.
-        self._now = (word, lengths, paint(machine, k, word, lengths))
+        # Its states are what was painted: a word, lengths, and the line that was painted for them.
+        self._history = History((word, lengths, paint(machine, k, word, lengths)), MOST_UNDONE)
         self._machine = machine
         self._k = k
-        self._past = []
-        self._undone = []
 
     def line(self):
         """The painted line."""
-        return self._now[2]
+        return self._history.now()[2]
 
     def word(self):
         """The word of the line."""
-        return self._now[0]
+        return self._history.now()[0]
 
     def lengths(self):
         """The lengths of the line."""
-        return self._now[1]
+        return self._history.now()[1]
 
     def rooms(self):
         """The rooms of the stretches of the line."""
@@ -49,7 +48,8 @@ class Track:
         self._check_stretch(at)
         if not is_within(letter, 0, self._machine[0] - 1):
             raise BadLetter(letter)
-        word, lengths, line = self._now
+        word = self.word()
+        lengths = self.lengths()
         if not is_within(left, 0, lengths[at] - 1):
             raise BadSize(0)
         parts = (left, lengths[at] - 1 - left)
@@ -57,7 +57,8 @@ class Track:
 
     def drop(self, at):
         """Makes a station a plain cell; returns how many stretches are repainted."""
-        word, lengths, line = self._now
+        word = self.word()
+        lengths = self.lengths()
         if not is_within(at, 0, len(word) - 1):
             raise BadAt(at)
         whole = lengths[at] + 1 + lengths[at + 1]
@@ -68,23 +69,17 @@ class Track:
         self._check_stretch(at)
         if not is_within(size, 0, GREATEST_LENGTH):
             raise BadSize(0)
-        word, lengths, line = self._now
-        return self._granted(word, (*lengths[:at], size, *lengths[at + 1:]))
+        lengths = self.lengths()
+        return self._granted(self.word(), (*lengths[:at], size, *lengths[at + 1:]))
 
     def back(self):
         """Undoes the last edit that is not undone; returns the word."""
-        if not self._past:
-            raise NothingBack(0)
-        self._undone.append(self._now)
-        self._now = self._past.pop()
+        self._history.back()
         return self.word()
 
     def again(self):
         """Does the last undone edit once more; returns the word."""
-        if not self._undone:
-            raise NothingAgain(0)
-        self._past.append(self._now)
-        self._now = self._undone.pop()
+        self._history.again()
         return self.word()
 
     def wiped(self, place):
@@ -110,9 +105,7 @@ class Track:
 
     def _granted(self, word, lengths):
         """Paints the line anew; returns how many stretches are repainted."""
-        before = self._now
+        before = self.line()
         line = paint(self._machine, self._k, word, lengths)
-        self._past = [*self._past, before][-MOST_UNDONE:]
-        self._undone = []
-        self._now = (word, lengths, line)
-        return repainted(before[2], line)
+        self._history.change((word, lengths, line))
+        return repainted(before, line)
