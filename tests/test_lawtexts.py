@@ -194,6 +194,8 @@ class Words(Case):
             self.refused(BadText, 1, read_law, A, "a" + chr(code))
             # The signs are looked at before the words.
             self.refused(BadText, 3, read_law, A, ")) " + chr(code) + "a")
+        # The least and the greatest sign that a text has are no wrong signs.
+        self.refused(BadText, 0, read_law, A, ") ~")
         for code in range(32, 127):
             try:
                 read_law(("b",), "b " + chr(code))

@@ -390,6 +390,7 @@ class Looks(Case):
 
     def test_each_place(self):
         for machine, k, word, lengths in ((SOME, 4, (0, 0), (12, 17, 14)), (SOME, 5, (0,), (15, 16)),
+                                          ((1, 2, (1,), (0,), ((0, 0, 1), (1, 0, 0))), 4, (0,), (14, 12)),
                                           (EVEN, 7, (0, 0), (21, 40, 22)), (chain(3), 30, (0,) * 3, (380,) * 4),
                                           (ring(3, (0,)), 15, (0, 0, 0), (110, 111, 115, 119))):
             track = Track(machine, k, word, lengths)

@@ -58,7 +58,7 @@ class LawReading:
             self._close_bracket()
             words.take()
             return False
-        words.check(word in ("(", "!") or word in PLAIN_LAWS or is_name(word))
+        # What cannot begin a unit is refused where the unit is taken.
         self._end_unit()
         return self.take_unit(words)
 
