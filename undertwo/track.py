@@ -6,7 +6,7 @@ from undertwo.history import History
 from undertwo.lines import DOT, EMPTY, GREATEST_LENGTH, stretches_of
 from undertwo.machines import first_run, trimmed
 from undertwo.painter import paint
-from undertwo.seen import room_seen
+from undertwo.seen import rooms_of_views
 
 MOST_UNDONE = 50
 
@@ -26,6 +26,8 @@ class Track:
         self._history = History((word, lengths, paint(machine, k, word, lengths)), MOST_UNDONE)
         self._machine = machine
         self._k = k
+        # The rooms of all views, when they have been asked for; no edit changes them.
+        self._views = None
 
     def line(self):
         """The painted line."""
@@ -96,7 +98,9 @@ class Track:
         view = self.line()[place:place + self._k]
         if len(view) < self._k or max(view) > DOT:
             raise BadPlace(place)
-        return room_seen(self._machine, self._k, view)
+        if self._views is None:
+            self._views = rooms_of_views(self._k, trimmed(self._machine)[1])
+        return self._views[view]
 
     def _check_stretch(self, at):
         """Refuses what is not the number of a stretch."""
