@@ -2,6 +2,7 @@
 
 import itertools
 import unittest
+import weakref
 from functools import lru_cache
 
 from undertwo import errors
@@ -23,6 +24,11 @@ NO_TUPLES = (True, False, None, 0, 1, -1, 10 ** 40, "", "1", "(1,)", [], [1], [1
 
 class Case(unittest.TestCase):
     """A test case that knows how an error of the package must be."""
+
+    def setUp(self):
+        # Each test has the same chances, whichever tests ran before it.
+        for chances in list(Chances.every):
+            chances.begin()
 
     def refused(self, kind, what, action, *given, **named):
         """The action raises just this error, under `Refused` alone, with just this in `what`."""
@@ -54,8 +60,15 @@ class Case(unittest.TestCase):
 class Chances:
     """Numbers that look thrown, but are the same each time."""
 
+    every = weakref.WeakSet()
+
     def __init__(self, seed):
-        self.state = seed
+        self.seed = seed
+        self.begin()
+        Chances.every.add(self)
+
+    def begin(self):
+        self.state = self.seed
 
     def below(self, bound):
         self.state = (self.state * 6364136223846793005 + 1442695040888963407) % 2 ** 64

@@ -177,6 +177,9 @@ class Rows(Case):
             return word, (word,)
         place = CHANCES.below(cells + 2)
         word = ("seen", "wipe")[CHANCES.below(2)]
+        dots = [at for at, cell in enumerate(model.track[0].line()) if cell == 1] if model.track else []
+        if word == "wipe" and dots and CHANCES.below(3):
+            place = dots[CHANCES.below(len(dots))]
         return f"{word} {place}", (word, place)
 
     def test_beside_a_model(self):
