@@ -75,7 +75,7 @@ def gaps_between(cells):
     """The gaps from dot to dot of cells that come again and again, as a tuple."""
     dots = [at for at, cell in enumerate(cells) if cell == DOT]
     # Round the end: from the last dot the first one is as far as if it stood a round behind.
-    behind = [*dots[1:], *[at + len(cells) for at in dots[:1]]]
+    behind = dots[1:] + [at + len(cells) for at in dots[:1]]
     return tuple([after - before for before, after in zip(dots, behind)])
 
 

@@ -100,7 +100,7 @@ class Track:
             raise BadPlace(place)
         if self._views is None:
             self._views = rooms_of_views(self._k, trimmed(self._machine)[1])
-        return self._views[view]
+        return self._views.get(view)
 
     def _check_stretch(self, at):
         """Refuses what is not the number of a stretch."""
